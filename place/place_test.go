@@ -510,7 +510,7 @@ func TestLimit(t *testing.T) {
 	}
 }
 
-// P5.3: names, and what has none.
+// P5.3: names of all that could be a place, of however many roots, slots and levels.
 func TestName(t *testing.T) {
 	for i, c := range []struct {
 		p    api.Place
@@ -544,45 +544,53 @@ func TestName(t *testing.T) {
 		{place.Link(3, math.MaxInt-7), "slot 3 next 9223372036854775800"},
 		{place.Link(3, -1), "slot 3 state"},
 		{place.Link(3, -7), "slot 3 birth"},
-		{place.Link(3, -8), ""},
-		{place.Link(3, math.MaxInt-6), ""},
-		{place.Link(3, math.MaxInt), ""},
-		{place.Link(0, 0), ""},
-		{place.Root(-1), ""},
-		{place.Root(math.MinInt), ""},
-		{place.Of(0, 0), ""},
-		{place.Of(0, 3), ""},
-		{place.Of(-1, 0), ""},
-		{place.Of(math.MinInt, 0), ""},
-		{place.Of(1, -1), ""},
-		{place.Of(1, math.MinInt), ""},
-		{place.Of(math.MinInt, math.MinInt), ""},
-		{at(4, 1, 0), ""},
-		{at(4, -1, 0), ""},
-		{at(4, math.MaxInt, 2), ""},
-		{at(4, math.MinInt, 2), ""},
-		{at(0, 0, 0), ""},
-		{at(0, 1, 1), ""},
-		{at(6, 0, 0), ""},
-		{at(6, 1, 0), ""},
-		{at(-1, 0, 0), ""},
-		{at(-5, 1, 0), ""},
-		{at(1<<32+1, 0, 0), ""},
-		{at(1<<32+5, 1, 0), ""},
-		{at(math.MinInt, 0, 0), ""},
-		{at(math.MinInt+1, 0, 0), ""},
-		{at(math.MinInt+5, 1, 0), ""},
-		{at(math.MaxInt, 0, 0), ""},
 	} {
 		if name := place.Name(c.p); name != c.name {
 			t.Errorf("%d: %v: %q", i, c.p, name)
 		}
 	}
-	for _, kind := range []int{1, 2, 3} {
+}
+
+// P5.3: what can't be a place is named none, by each part of the sentence that tells of it.
+func TestNameNone(t *testing.T) {
+	for _, c := range []struct {
+		why    string
+		places []api.Place
+	}{
+		{"a Kind that there isn't", []api.Place{
+			{}, at(0, 0, 1), at(0, 1, 0), at(0, 1, 1), at(6, 0, 0), at(6, 1, 0), at(6, 1, 7), at(-1, 0, 0), at(-1, 1, 0), at(-5, 1, 0),
+			at(1<<32+1, 0, 0), at(1<<32+4, 0, 0), at(1<<32+5, 1, 0), at(257, 0, 0), at(261, 1, 0),
+			at(math.MinInt, 0, 0), at(math.MinInt+1, 0, 0), at(math.MinInt+5, 1, 0), at(math.MaxInt, 0, 0), at(math.MaxInt, 1, 1),
+		}},
+		{"a Slot that isn't 0 of a root", []api.Place{at(4, 1, 0), at(4, 1, 3), at(4, -1, 0), at(4, 1<<32, 0), at(4, math.MaxInt, 2), at(4, math.MinInt, 2)}},
+		{"a Part below 0 of a root", []api.Place{place.Root(-1), place.Root(-2), place.Root(-1 << 32), place.Root(math.MinInt), at(4, 1, -1)}},
+		{"a Slot below 1 of a cell", []api.Place{
+			place.Of(0, 0), place.Of(0, 1), place.Of(0, 3), place.Of(0, math.MaxInt), place.Link(0, 0), place.Link(0, 15),
+			place.Of(-1, 0), place.Of(-1, 3), place.Link(-1, 0), place.Of(-1<<32+1, 0), place.Of(math.MinInt, 0), place.Of(math.MinInt+1, 0),
+		}},
+		{"a Part below 0 of a cell", []api.Place{
+			place.Of(1, -1), place.Of(1, -7), place.Of(2, -1<<32), place.Of(1, math.MinInt), place.Of(maxSlots, -1), place.Of(math.MaxInt, -1),
+			place.Link(3, -8), place.Link(3, math.MinInt), place.Of(0, -1), place.Of(math.MinInt, math.MinInt),
+		}},
+		{"a level whose sum with Next goes round", []api.Place{
+			place.Link(1, math.MaxInt-6), place.Link(1, math.MaxInt-5), place.Link(3, math.MaxInt-1), place.Link(3, math.MaxInt),
+		}},
+	} {
+		for _, p := range c.places {
+			if name := place.Name(p); name != "none" {
+				t.Errorf("%s: %v: %q", c.why, p, name)
+			}
+		}
+	}
+}
+
+// P5.3: a Slot or a Part that isn't 0, of those that each structure has once.
+func TestNameSingleNone(t *testing.T) {
+	for _, p := range []api.Place{place.Epoch(), place.Pool(), place.Fresh()} {
 		for _, n := range append(about(-3, -1), about(1, 9)...) {
-			for _, p := range []api.Place{at(kind, n, 0), at(kind, 0, n), at(kind, n, n), at(kind, n, -n)} {
-				if name := place.Name(p); name != "" {
-					t.Errorf("%v: %q", p, name)
+			for _, q := range []api.Place{at(p.Kind, n, 0), at(p.Kind, 0, n), at(p.Kind, n, n), at(p.Kind, n, -n)} {
+				if name := place.Name(q); name != "none" {
+					t.Errorf("%v: %q", q, name)
 				}
 			}
 		}
@@ -603,10 +611,10 @@ func nameOf(p api.Place) string {
 	case p.Kind == 5 && p.Slot >= 1 && p.Part >= 0:
 		return "slot " + whole + " " + names[p.Part]
 	}
-	return ""
+	return "none"
 }
 
-// P5.3, P5.4: names of every place in and about a structure; unlike ones are unlike.
+// P5.3, P5.4: names of every place in and about a structure; unlike ones are unlike, and none that can be is named none.
 func TestNames(t *testing.T) {
 	whose := map[string]api.Place{}
 	for _, c := range []api.Config{list(3), hash(2, maxBuckets), skip(130, maxHeight)} {
@@ -615,7 +623,7 @@ func TestNames(t *testing.T) {
 			if name != nameOf(p) {
 				t.Fatalf("%v: %q", p, name)
 			}
-			if name == "" {
+			if name == "none" {
 				continue
 			}
 			if q, is := whose[name]; is && p != q {
@@ -624,8 +632,9 @@ func TestNames(t *testing.T) {
 			whose[name] = p
 		}
 		for n := range place.Count(c) {
-			if p, _ := place.At(c, n); place.Name(p) == "" {
-				t.Error(c, n, p)
+			p, _ := place.At(c, n)
+			if name := place.Name(p); name == "none" || name == "" {
+				t.Errorf("%v, %d: %v: %q", c, n, p, name)
 			}
 		}
 	}
