@@ -1,6 +1,7 @@
 package core_test
 
 import (
+	"maps"
 	"math"
 	"slices"
 	"testing"
@@ -920,7 +921,10 @@ func step(t *testing.T, x *numbers, w *watched, word uint64, th *thread) {
 func TestMany(t *testing.T) {
 	x := numbers(13)
 	for _, conf := range structures {
-		for name, inner := range worlds() {
+		// By name, so that each run of the test draws the same numbers.
+		all := worlds()
+		for _, name := range slices.Sorted(maps.Keys(all)) {
+			inner := all[name]
 			w := watching(inner)
 			var threads []*thread
 			for range 3 {

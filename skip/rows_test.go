@@ -335,13 +335,17 @@ func TestTurns(t *testing.T) {
 			}
 		}
 	}
-	for row, o := range map[string][]api.Op{"s": {insert(2, 3), insert(4, 2), insert(0, 3)}, "e": {remove(3), remove(1)}} {
-		for _, o := range o {
+	// In their order, so that each run of the test draws the same numbers.
+	for _, from := range []struct {
+		row string
+		ops []api.Op
+	}{{"s", []api.Op{insert(2, 3), insert(4, 2), insert(0, 3)}}, {"e", []api.Op{remove(3), remove(1)}}} {
+		for _, o := range from.ops {
 			for i := range 14 {
 				for _, one := range all {
 					for _, two := range all {
 						j := i + x.below(4)
-						turned(t, kinds[x.below(4)], o, x.below(2), row, seen, func(n int, b *bench, th *thread) {
+						turned(t, kinds[x.below(4)], o, x.below(2), from.row, seen, func(n int, b *bench, th *thread) {
 							if n == i {
 								one(b, th)
 							}
